@@ -70,6 +70,10 @@ func TestMixWrong(t *testing.T) {
 	}
 }
 
+func same(m, x api.Mix) bool {
+	return slices.EqualFunc(m.Out, x.Out, bytes.Equal) && slices.Equal(m.From, x.From) && slices.EqualFunc(m.Keys, x.Keys, bytes.Equal)
+}
+
 func none(m api.Mix) bool { return len(m.Out)+len(m.From)+len(m.Keys) == 0 }
 
 func TestMixBad(t *testing.T) {
@@ -127,7 +131,7 @@ func TestMix(t *testing.T) {
 				old, oldDraws := cloned(l), slices.Clone(draws)
 				m, used, e := batch.Mix(servers[hop], hop, hops, l, draws)
 				w, wantUsed := want(servers[hop], hop, hops, l, draws)
-				if e != api.OK || used != wantUsed || !reflect.DeepEqual(m, w) {
+				if e != api.OK || used != wantUsed || !same(m, w) {
 					t.Fatalf("%d of %d, %d onions: got %v, %d, %d", hop, hops, many, m.From, used, e)
 				}
 				for i := range m.Out {

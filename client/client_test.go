@@ -404,6 +404,13 @@ func TestReceipt(t *testing.T) {
 	if len(got.Queue.Items) != 2 || got.Seq != 0 || len(got.Want) != 0 {
 		t.Errorf("another number: got %v", got)
 	}
+	// What is waited for may be as short as can be.
+	short := cloned(x)
+	short.Want = []byte{5}
+	got, _, _, _ = hear(t, short, 4, data(t, 4, 6, at(1, 5), 0, body(t, api.Note{Kind: api.ReceiptN, Parts: [][]byte{{5}}})), 3)
+	if len(got.Queue.Items) != 1 || got.Seq != 0 || len(got.Want) != 0 {
+		t.Errorf("one byte: got %v", got)
+	}
 	nothing := func(name string, x api.Client, from int, b []byte) {
 		t.Helper()
 		got, l, p, acks := hear(t, x, from, data(t, from, 6, at(1, 5), 0, b), 3)

@@ -355,6 +355,7 @@ func TestEnd(t *testing.T) {
 		{"1111", "01110", []int{4, 5}, next(1, 1, 2, 3), []int{4, 5}, true},
 		{"1110", "0111", []int{4, 5}, next(1, 1, 2, 3), []int{4, 5}, true},
 		{"111", "0110", []int{4, 5}, next(1, 1, 2, 3), []int{4, 5}, true},
+		{"0", "1", []int{4, 5}, next(1, 1, 2, 3), []int{4, 5}, false},
 	} {
 		k := in()
 		k.On, k.Back, k.Standby, k.Closed = flags(x.on), flags(x.back), x.standby, true

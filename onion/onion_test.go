@@ -131,7 +131,11 @@ func TestPeelWrong(t *testing.T) {
 	for _, x := range [][2]int{{0, 0}, {0, 9}, {0, -1}, {-1, 3}, {3, 3}, {4, 3}, {maxInt, 3}, {-maxInt - 1, 3}, {0, maxInt}, {2, 2}} {
 		refused("hops", servers[0], x[0], x[1], good, api.ErrArg)
 	}
-	refused("no hops, no bytes", servers[0], 0, 0, nil, api.ErrArg)
+	for _, hops := range []int{-1, 0, 9, 10, maxInt} {
+		for _, hop := range []int{-1, 0, 1, 8} {
+			refused("no bytes", servers[0], hop, hops, nil, api.ErrArg)
+		}
+	}
 	refused("nine hops", servers[0], 0, 9, make([]byte, 78+9*48), api.ErrArg)
 	for _, n := range []int{0, 1, 78, 126, 174, 221} {
 		refused("cut", servers[0], 0, 3, good[:n], api.ErrArg)

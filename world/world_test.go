@@ -324,6 +324,32 @@ func TestStep(t *testing.T) {
 	}
 }
 
+// With as many nodes as may be, all mind the time, though frames are lost.
+func TestGreatest(t *testing.T) {
+	c := cfg()
+	c.Chain, c.Standby, c.Clients, c.Close, c.Long, c.Again = 8, 8, 8, 10, 40, 2
+	fates := slices.Repeat([]int{0, 16, 0}, 60)
+	fates[9], fates[23] = -1, -1 // the first client's onion, and the last one's
+	w := made(t, c, fates, []int{9, 8, 7})
+	m := model{c, plain(w)}
+	sent := map[int]bool{}
+	for range 30 {
+		m.tick()
+		w, _ = world.Step(c, w, tick())
+	}
+	if !same(w, m.w) {
+		t.Error("another world")
+	}
+	for _, x := range w.Log {
+		if !x.First && x.Len > 400 {
+			sent[x.From] = true
+		}
+	}
+	if !sent[24] || !sent[17] {
+		t.Errorf("sent anew by %v", sent)
+	}
+}
+
 func TestFirstTick(t *testing.T) {
 	w, answer := step(t, cfg(), made(t, cfg(), []int{2, -1}, nil), tick())
 	if !same(answer, api.Answer{}) || w.Now != 1 || len(w.Log) != 3 || len(w.Net.List) != 2 || len(w.Net.Fates) != 0 {
