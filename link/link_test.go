@@ -66,13 +66,7 @@ func TestSend(t *testing.T) {
 		old := api.Out{Next: x.o.Next, Sent: slices.Clone(x.o.Sent), Wait: slices.Clone(x.o.Wait)}
 		o, told := link.Send(x.o, body, x.window, 5)
 		body[0] = 'y'
-		for i := range told {
-			if !sameItem(told[i], x.told[i]) {
-				t.Errorf("%d: told %v", i, told[i])
-			}
-			told[i].Body[0] = 'z'
-		}
-		if !sameOut(o, x.want) || len(told) != len(x.told) || !sameOut(x.o, old) {
+		if !sameOut(o, x.want) || !sameItems(told, x.told) || !sameOut(x.o, old) {
 			t.Errorf("%d: got %v, %v", i, o, told)
 		}
 	}
@@ -109,14 +103,8 @@ func TestAck(t *testing.T) {
 	} {
 		in := out()
 		o, told := link.Ack(in, x.n, x.window, 5)
-		if !sameItems(told, x.told) {
-			t.Errorf("%d: told %v", i, told)
-		}
-		for i := range told {
-			told[i].Body[0] = 'z'
-		}
-		if !sameOut(o, x.want) || !sameOut(in, out()) {
-			t.Errorf("%d: got %v", i, o)
+		if !sameOut(o, x.want) || !sameItems(told, x.told) || !sameOut(in, out()) {
+			t.Errorf("%d: got %v, %v", i, o, told)
 		}
 		if rest := in.Sent[:cap(in.Sent)][2:]; !sameItems(rest, make([]api.Item, len(rest))) {
 			t.Errorf("%d: the room behind what was handed in is changed", i)
@@ -157,14 +145,8 @@ func TestAgain(t *testing.T) {
 				late = append(late, want.Sent[j])
 			}
 		}
-		if !sameItems(told, late) {
-			t.Errorf("%d: told %v", i, told)
-		}
-		for i := range told {
-			told[i].Body[0] = 'z'
-		}
-		if !sameOut(o, want) || !sameOut(in, out()) {
-			t.Errorf("%d: got %v", i, o)
+		if !sameOut(o, want) || !sameItems(told, late) || !sameOut(in, out()) {
+			t.Errorf("%d: got %v, %v", i, o, told)
 		}
 	}
 	if o, told := link.Again(api.Out{Next: 3, Wait: texts("a")}, 0, 5); len(told) != 0 || !sameOut(o, api.Out{Next: 3, Wait: texts("a")}) {
@@ -203,9 +185,6 @@ func TestTake(t *testing.T) {
 		body[0] = 'y'
 		if !slices.EqualFunc(bodies, x.bodies, bytes.Equal) || n != x.want.Expect {
 			t.Errorf("%d: told %q, %d", i, bodies, n)
-		}
-		for i := range bodies {
-			bodies[i][0] = 'z'
 		}
 		if !sameIn(got, x.want) || !sameIn(old, in()) {
 			t.Errorf("%d: got %v", i, got)

