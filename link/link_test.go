@@ -69,6 +69,10 @@ func TestSend(t *testing.T) {
 		if !sameOut(o, x.want) || !sameItems(told, x.told) || !sameOut(x.o, old) {
 			t.Errorf("%d: got %v, %v", i, o, told)
 		}
+		clear(told)
+		if !sameOut(o, x.want) {
+			t.Errorf("%d: the items that are told are those under way", i)
+		}
 	}
 }
 
@@ -105,6 +109,10 @@ func TestAck(t *testing.T) {
 		o, told := link.Ack(in, x.n, x.window, 5)
 		if !sameOut(o, x.want) || !sameItems(told, x.told) || !sameOut(in, out()) {
 			t.Errorf("%d: got %v, %v", i, o, told)
+		}
+		clear(told)
+		if !sameOut(o, x.want) {
+			t.Errorf("%d: the items that are told are those under way", i)
 		}
 		if rest := in.Sent[:cap(in.Sent)][2:]; !sameItems(rest, make([]api.Item, len(rest))) {
 			t.Errorf("%d: the room behind what was handed in is changed", i)
@@ -147,6 +155,10 @@ func TestAgain(t *testing.T) {
 		}
 		if !sameOut(o, want) || !sameItems(told, late) || !sameOut(in, out()) {
 			t.Errorf("%d: got %v, %v", i, o, told)
+		}
+		clear(told)
+		if !sameOut(o, want) {
+			t.Errorf("%d: the items that are told are those under way", i)
 		}
 	}
 	if o, told := link.Again(api.Out{Next: 3, Wait: texts("a")}, 0, 5); len(told) != 0 || !sameOut(o, api.Out{Next: 3, Wait: texts("a")}) {
